@@ -4,60 +4,24 @@ import (
 	"slices"
 
 	"hedgerow/api"
-	"hedgerow/lex"
+	"hedgerow/tokens"
 )
 
-// reader reads expressions of tokens. Each of the grammar's rules is a call that puts what it reads, and tells its place.
-// It keeps its first fault; behind that it takes no token, so that all calls end, and what they tell means nothing.
+// reader reads expressions of tokens. Each of the grammar's rules is a call that puts what it reads, and tells its place; behind a fault that means nothing.
 type reader struct {
-	left []api.Token // those that aren't read yet
+	tokens.Reader
 	row  []api.Expr
 	deep int // how many "(" and "NOT" stand around what is read
-	err  api.Errno
 }
 
 // Parse reads an expression.
 func Parse(l []api.Token, row []api.Expr) ([]api.Expr, int, int, api.Errno) {
-	r := reader{left: l, row: slices.Clone(row)}
+	r := reader{Reader: tokens.Reader{Left: l}, row: slices.Clone(row)}
 	whole := r.or()
-	if r.err != api.OK {
-		return nil, 0, 0, r.err
+	if r.Err != api.OK {
+		return nil, 0, 0, r.Err
 	}
-	return r.row, whole, len(l) - len(r.left), api.OK
-}
-
-// fail keeps a fault, if it is the first one.
-func (r *reader) fail(err api.Errno) {
-	if r.err == api.OK {
-		r.err = err
-	}
-}
-
-// takes reads a word, or a sign, if it stands there.
-func (r *reader) takes(text string) bool {
-	if r.err != api.OK || len(r.left) == 0 || !lex.Is(r.left[0], text) {
-		return false
-	}
-	r.left = r.left[1:]
-	return true
-}
-
-// needs reads a word, or a sign, that must stand there.
-func (r *reader) needs(text string) {
-	if !r.takes(text) {
-		r.fail(api.ErrSyntax)
-	}
-}
-
-// one reads a token of one of the kinds, which must stand there.
-func (r *reader) one(kinds ...int) api.Token {
-	if r.err != api.OK || len(r.left) == 0 || !slices.Contains(kinds, r.left[0].Kind) || !may(r.left[0]) {
-		r.fail(api.ErrSyntax)
-		return api.Token{}
-	}
-	t := r.left[0]
-	r.left = r.left[1:]
-	return t
+	return r.row, whole, len(l) - len(r.Left), api.OK
 }
 
 // put lays an expression behind the row, and tells its place.
@@ -72,7 +36,7 @@ func (r *reader) value(v api.Value) int { return r.put(api.Expr{Kind: api.ExValu
 // within reads what a "(" or "NOT" stands around.
 func (r *reader) within(rule func() int) int {
 	if r.deep == api.MaxDepth {
-		r.fail(api.ErrDeep)
+		r.Fail(api.ErrDeep)
 		return 0
 	}
 	r.deep++
@@ -84,7 +48,7 @@ func (r *reader) within(rule func() int) int {
 // pair goes on behind a left side, if what is between the sides of one of the kinds stands there: the place of both sides' expression, and true; else the left one's.
 func (r *reader) pair(left int, side func() int, kinds ...int) (int, bool) {
 	for _, kind := range kinds {
-		if r.takes(between[kind]) {
+		if r.Takes(between[kind]) {
 			right := side()
 			return r.put(api.Expr{Kind: kind, L: left, R: right}), true
 		}
@@ -108,7 +72,7 @@ func (r *reader) or() int { return r.pairs(r.and, api.ExOr) }
 func (r *reader) and() int { return r.pairs(r.not, api.ExAnd) }
 
 func (r *reader) not() int {
-	if r.takes("NOT") {
+	if r.Takes("NOT") {
 		return r.put(api.Expr{Kind: api.ExNot, L: r.within(r.not)})
 	}
 	return r.cmp()
@@ -116,7 +80,7 @@ func (r *reader) not() int {
 
 func (r *reader) cmp() int {
 	left := r.add()
-	if r.takes("IS") {
+	if r.Takes("IS") {
 		return r.is(left)
 	}
 	whole, _ := r.pair(left, r.add, api.ExEq, api.ExNe, api.ExLt, api.ExLe, api.ExGt, api.ExGe)
@@ -126,10 +90,10 @@ func (r *reader) cmp() int {
 // is reads what stands behind an "IS".
 func (r *reader) is(left int) int {
 	kind := api.ExNull
-	if r.takes("NOT") {
+	if r.Takes("NOT") {
 		kind = api.ExSome
 	}
-	r.needs("NULL")
+	r.Needs("NULL")
 	return r.put(api.Expr{Kind: kind, L: left})
 }
 
@@ -139,21 +103,21 @@ func (r *reader) mul() int { return r.pairs(r.prim, api.ExMul) }
 
 func (r *reader) prim() int {
 	switch {
-	case r.takes("("):
+	case r.Takes("("):
 		whole := r.within(r.or)
-		r.needs(")")
+		r.Needs(")")
 		return whole
-	case r.takes("MANY"):
+	case r.Takes("MANY"):
 		return r.many()
-	case r.takes("-"):
+	case r.Takes("-"):
 		return r.below()
-	case r.takes("@"):
-		return r.value(api.Value{Kind: api.Node, Text: r.one(api.TokName).Text})
-	case r.takes("TRUE"):
+	case r.Takes("@"):
+		return r.value(api.Value{Kind: api.Node, Text: r.Name()})
+	case r.Takes("TRUE"):
 		return r.value(api.Value{Kind: api.Bool, Num: 1})
-	case r.takes("FALSE"):
+	case r.Takes("FALSE"):
 		return r.value(api.Value{Kind: api.Bool})
-	case r.takes("NULL"):
+	case r.Takes("NULL"):
 		return r.value(api.Value{})
 	}
 	return r.plain()
@@ -161,34 +125,34 @@ func (r *reader) prim() int {
 
 // many reads what stands behind a "MANY".
 func (r *reader) many() int {
-	r.needs("(")
-	e := api.Expr{Kind: api.ExMany, Var: r.one(api.TokName).Text}
-	r.needs(".")
-	e.Prop = r.one(api.TokName).Text
-	r.needs(")")
+	r.Needs("(")
+	e := api.Expr{Kind: api.ExMany, Var: r.Name()}
+	r.Needs(".")
+	e.Prop = r.Name()
+	r.Needs(")")
 	return r.put(e)
 }
 
 // below reads the number behind a "-" that has no left side.
 func (r *reader) below() int {
-	n := r.one(api.TokNum).Num
+	n := r.One(api.TokNum).Num
 	if n == 0 {
-		r.fail(api.ErrSyntax)
+		r.Fail(api.ErrSyntax)
 	}
 	return r.value(api.Value{Kind: api.Int, Num: -n})
 }
 
 // plain reads what a number, a text or a name begins.
 func (r *reader) plain() int {
-	t := r.one(api.TokNum, api.TokText, api.TokName)
+	t := r.One(api.TokNum, api.TokText, api.TokName)
 	switch t.Kind {
 	case api.TokNum:
 		return r.value(api.Value{Kind: api.Int, Num: t.Num})
 	case api.TokText:
 		return r.value(api.Value{Kind: api.Text, Text: t.Text})
 	}
-	if r.takes(".") {
-		return r.put(api.Expr{Kind: api.ExProp, Var: t.Text, Prop: r.one(api.TokName).Text})
+	if r.Takes(".") {
+		return r.put(api.Expr{Kind: api.ExProp, Var: t.Text, Prop: r.Name()})
 	}
 	return r.put(api.Expr{Kind: api.ExVar, Var: t.Text})
 }

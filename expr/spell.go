@@ -2,7 +2,7 @@ package expr
 
 import (
 	"hedgerow/api"
-	"hedgerow/value"
+	"hedgerow/tokens"
 )
 
 // longest is how many tokens are told at most.
@@ -45,17 +45,6 @@ func ruleOf(kind int) int {
 	return ruleCmp
 }
 
-// named is a name's token.
-func named(s string) api.Token { return api.Token{Kind: api.TokName, Text: s} }
-
-// mark is a word's token, or a sign's.
-func mark(s string) api.Token {
-	if value.Name(s) {
-		return api.Token{Kind: api.TokWord, Text: s}
-	}
-	return api.Token{Kind: api.TokSign, Text: s}
-}
-
 // spell tells an expression's tokens, and its sides between them, from the left on: of a side the rule of which its tokens must be, brackets aside.
 func spell(e api.Expr, token func(api.Token), side func(i, rule int)) {
 	own := ruleOf(e.Kind)
@@ -63,29 +52,29 @@ func spell(e api.Expr, token func(api.Token), side func(i, rule int)) {
 	case api.ExValue:
 		spellValue(e.Value, token)
 	case api.ExVar:
-		token(named(e.Var))
+		token(tokens.Name(e.Var))
 	case api.ExProp:
 		spellProp(e, token)
 	case api.ExMany:
-		token(mark("MANY"))
-		token(mark("("))
+		token(tokens.Mark("MANY"))
+		token(tokens.Mark("("))
 		spellProp(e, token)
-		token(mark(")"))
+		token(tokens.Mark(")"))
 	case api.ExNot:
-		token(mark("NOT"))
+		token(tokens.Mark("NOT"))
 		side(e.L, own)
 	case api.ExNull:
 		side(e.L, own+1)
-		token(mark("IS"))
-		token(mark("NULL"))
+		token(tokens.Mark("IS"))
+		token(tokens.Mark("NULL"))
 	case api.ExSome:
 		side(e.L, own+1)
-		token(mark("IS"))
-		token(mark("NOT"))
-		token(mark("NULL"))
+		token(tokens.Mark("IS"))
+		token(tokens.Mark("NOT"))
+		token(tokens.Mark("NULL"))
 	default:
 		side(e.L, leftRule(own))
-		token(mark(between[e.Kind]))
+		token(tokens.Mark(between[e.Kind]))
 		side(e.R, own+1)
 	}
 }
@@ -101,30 +90,30 @@ func leftRule(rule int) int {
 
 // spellProp tells the tokens of a variable's property.
 func spellProp(e api.Expr, token func(api.Token)) {
-	token(named(e.Var))
-	token(mark("."))
-	token(named(e.Prop))
+	token(tokens.Name(e.Var))
+	token(tokens.Mark("."))
+	token(tokens.Name(e.Prop))
 }
 
 // spellValue tells the tokens of a value that has some.
 func spellValue(v api.Value, token func(api.Token)) {
 	switch {
 	case v.Kind == api.Node:
-		token(mark("@"))
-		token(named(v.Text))
+		token(tokens.Mark("@"))
+		token(tokens.Name(v.Text))
 	case v.Kind == api.Text:
 		token(api.Token{Kind: api.TokText, Text: v.Text})
 	case v.Kind == api.Int && v.Num < 0:
-		token(mark("-"))
+		token(tokens.Mark("-"))
 		token(api.Token{Kind: api.TokNum, Num: -v.Num})
 	case v.Kind == api.Int:
 		token(api.Token{Kind: api.TokNum, Num: v.Num})
 	case v.Kind == api.Bool && v.Num == 1:
-		token(mark("TRUE"))
+		token(tokens.Mark("TRUE"))
 	case v.Kind == api.Bool:
-		token(mark("FALSE"))
+		token(tokens.Mark("FALSE"))
 	default:
-		token(mark("NULL"))
+		token(tokens.Mark("NULL"))
 	}
 }
 
@@ -156,9 +145,9 @@ func Tokens(row []api.Expr, i int) ([]api.Token, bool) {
 			spell(row[i], token, side)
 			return
 		}
-		token(mark("("))
+		token(tokens.Mark("("))
 		spell(row[i], token, side)
-		token(mark(")"))
+		token(tokens.Mark(")"))
 	}
 	side(i, ruleOr)
 	return l, true
